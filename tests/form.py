@@ -24,6 +24,7 @@ isupper items join keys ljust lower lstrip partition pop remove replace reverse 
 rstrip setdefault split splitlines startswith strip update upper values zfill bit_length""".split()
 DUNDERS = ("__init__", "__eq__", "__repr__", "__str__", "__len__")
 WALKED = ("zip", "enumerate", "reversed", "range")
+CHANGES = ("append", "clear", "extend", "insert", "pop", "remove", "reverse", "setdefault", "update")
 WALKERS = ("list", "tuple", "dict", "sorted", "sum", "any", "all", "enumerate", "zip", "min", "max")
 KEYWORDS = {"sorted": ("key", "reverse"), "min": ("key", "default"), "max": ("key", "default"), "sum": ("start",),
             "enumerate": ("start",), "zip": ("strict",)}
@@ -45,7 +46,7 @@ def faults(text):
     for node in ast.walk(tree):
         told = (statement_faults(node, parents) + expression_faults(node) + function_faults(node, tree)
                 + class_faults(node) + name_faults(node) + call_faults(node, tree) + walked_faults(node, parents)
-                + error_faults(node))
+                + change_faults(node) + error_faults(node))
         found.extend(f"{getattr(node, 'lineno', 0)}: {fault}" for fault in told)
     return found
 
@@ -245,6 +246,20 @@ def walked_faults(node, parents):
         fits = called in WALKERS or isinstance(above, (ast.For, ast.comprehension))
         return [] if fits else ["L23 not walked on the spot"]
     return []
+
+
+def change_faults(node):
+    if not isinstance(node, ast.For):
+        return []
+    walked = {ast.unparse(inner) for inner in ast.walk(node.iter) if isinstance(inner, (ast.Name, ast.Subscript))}
+    changed = set()
+    for statement in node.body:
+        for inner in ast.walk(statement):
+            if isinstance(inner, ast.Call) and isinstance(inner.func, ast.Attribute) and inner.func.attr in CHANGES:
+                changed.add(ast.unparse(inner.func.value))
+            if isinstance(inner, ast.Subscript) and isinstance(inner.ctx, ast.Store):
+                changed.add(ast.unparse(inner.value))
+    return [f"L23 {name} changed while it is walked" for name in sorted(walked & changed)]
 
 
 def error_faults(node):

@@ -75,6 +75,7 @@ class FormTest(unittest.TestCase):
             ("L19", "def f():\n    try:\n        g()\n    except Exception:\n        pass"),
             ("L20", "def f(x):\n    return x is f"), ("L22", "def f(x):\n    return int(x, base=3)"),
             ("L23", "def f(x):\n    y = zip(x, x)\n    return y"), ("L24", "def f(x):\n    y = set(x)\n    return y"),
+            ("L23", "def f(x):\n    for y in x:\n        x.append(y)"),
             ("L25", "def f(x):\n    return x.title()"), ("L27", "x = '%'"), ("L27", "def f(n):\n    return 2 ** n"),
         ):
             self.assertTrue([fault for fault in faults(text) if f": {rule} " in fault], text)
