@@ -107,3 +107,23 @@ def some_machines(seed, times, most_stands, most_signs=3):
         ends = [draw.random() < 0.4 for _ in range(stands)]
         choices = list(range(stands)) + [None] * nones
         yield (ends, [[draw.choice(choices) for _ in range(many)] for _ in range(stands)])
+
+
+def rows_let_from(machine, stand, length):
+    """The rows of so many numbers that lead from the stand to an end, gone through one by one."""
+    return [list(row) for row in itertools.product(range(len(machine[1][0])), repeat=length)
+            if ends_at(machine, walked(machine, stand, row))]
+
+
+def ends_at(machine, stand):
+    return stand is not None and machine[0][stand]
+
+
+def rows_let_up_to(machine, most):
+    return [row for length in range(most + 1) for row in rows_let_from(machine, 0, length)]
+
+
+def few_machines():
+    """All machines of one or two stands for one or two signs, and some larger ones."""
+    found = [machine for many, stands in ((1, 1), (2, 1), (1, 2), (2, 2)) for machine in all_machines(many, stands)]
+    return found + list(some_machines(61, 120, 5))

@@ -2,7 +2,7 @@
 
 from wordrules.errors import TooMuch
 from wordrules.least import least
-from wordrules.machines import is_end, led
+from wordrules.machines import explored, how_many_signs, is_end, led
 
 MOST_PAIRS = 2500
 
@@ -21,22 +21,17 @@ def either(one, other):
 
 # The pair of None and None is a stand like the others here: the least machine is without it.
 def pairs_and_goes(one, other):
-    if (len(one[0]) + 1) * (len(other[0]) + 1) > MOST_PAIRS:
+    refuse_above(MOST_PAIRS, one, other)
+    return explored((0, 0), lambda pair: pairs_ahead(one, other, pair))
+
+
+def refuse_above(most, one, other):
+    if (len(one[0]) + 1) * (len(other[0]) + 1) > most:
         raise TooMuch("too many pairs of stands")
-    numbers = {(0, 0): 0}
-    pairs = [(0, 0)]
-    goes = []
-    while len(goes) < len(pairs):
-        pair = pairs[len(goes)]
-        ways = []
-        for sign in range(len(one[1][0])):
-            there = (led(one, pair[0], sign), led(other, pair[1], sign))
-            if there not in numbers:
-                numbers[there] = len(pairs)
-                pairs.append(there)
-            ways.append(numbers[there])
-        goes.append(ways)
-    return (pairs, goes)
+
+
+def pairs_ahead(one, other, pair):
+    return [(led(one, pair[0], sign), led(other, pair[1], sign)) for sign in range(how_many_signs(one))]
 
 
 # What led nowhere leads to one stand more, an end that is never left.

@@ -6,7 +6,7 @@ part is unsettled, just the stands that are alike lie in one part. The smaller h
 the one to be settled next: so each stand is gone through few times, in large machines too.
 """
 
-from wordrules.machines import alive, met
+from wordrules.machines import alive, marked, met
 
 
 def least(machine):
@@ -17,9 +17,7 @@ def least(machine):
 
 
 def kept_stands(machine):
-    living = {}
-    for stand in alive(machine):
-        living[stand] = True
+    living = marked(alive(machine))
     return [stand for stand in met(machine) if stand in living]
 
 
@@ -71,9 +69,7 @@ def leading_into(settled, back, part_of):
 def split_part(parts, part_of, number, leading):
     moved = leading
     if len(leading) * 2 > len(parts[number]):
-        staying = {}
-        for stand in leading:
-            staying[stand] = True
+        staying = marked(leading)
         moved = [stand for stand in parts[number] if stand not in staying]
     new = {}
     for stand in moved:

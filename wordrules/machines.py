@@ -1,4 +1,4 @@
-"""Machines: their form, where a row leads in them, which stands are met and which are alive."""
+"""Machines: their form, where rows lead in them, which stands are met and alive, the first row to an end."""
 
 from wordrules.signs import MOST_SIGNS
 from wordrules.things import is_whole_within
@@ -20,6 +20,22 @@ def are_ways(many, stands, thing):
     if not isinstance(thing, list) or len(thing) != many:
         return False
     return all([there is None or is_whole_within(there, 0, stands - 1) for there in thing])
+
+
+def how_many_signs(machine):
+    return len(machine[1][0])
+
+
+def are_stands(machine, thing):
+    return are_numbers_below(len(machine[0]), thing)
+
+
+def are_signs(machine, thing):
+    return are_numbers_below(how_many_signs(machine), thing)
+
+
+def are_numbers_below(many, thing):
+    return isinstance(thing, list) and all([is_whole_within(number, 0, many - 1) for number in thing])
 
 
 def is_end(machine, stand):
@@ -59,10 +75,15 @@ def ways_back(goes):
     return backs
 
 
+def marked(stands):
+    marks = {}
+    for stand in stands:
+        marks[stand] = True
+    return marks
+
+
 def reached(first, goes):
-    seen = {}
-    for stand in first:
-        seen[stand] = True
+    seen = marked(first)
     ahead = list(first)
     while len(ahead) > 0:
         here = ahead.pop()
@@ -71,3 +92,53 @@ def reached(first, goes):
                 seen[there] = True
                 ahead.append(there)
     return sorted(seen)
+
+
+# Stands come into the dict by their first rows, the shorter ones first, then by their numbers: those
+# of one length are gone on from in the order of their rows, sign by sign.
+def came_from(goes, first):
+    came = {first: None}
+    ahead = [first]
+    done = 0
+    while done < len(ahead):
+        here = ahead[done]
+        for sign, there in enumerate(goes[here]):
+            if there is not None and there not in came:
+                came[there] = (here, sign)
+                ahead.append(there)
+        done = done + 1
+    return came
+
+
+def first_row(machine, stand):
+    came = came_from(machine[1], stand)
+    for there in came:
+        if machine[0][there]:
+            return row_to(came, there)
+    return None
+
+
+def row_to(came, stand):
+    row = []
+    before = came[stand]
+    while before is not None:
+        row.append(before[1])
+        before = came[before[0]]
+    return list(reversed(row))
+
+
+# Whatever can stand for a stand may be explored: ahead tells for each sign what it leads to, or None.
+def explored(first, ahead):
+    numbers = {first: 0}
+    found = [first]
+    goes = []
+    while len(goes) < len(found):
+        here = found[len(goes)]
+        ways = []
+        for there in ahead(here):
+            if there is not None and there not in numbers:
+                numbers[there] = len(found)
+                found.append(there)
+            ways.append(None if there is None else numbers[there])
+        goes.append(ways)
+    return (found, goes)
