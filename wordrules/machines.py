@@ -75,10 +75,10 @@ def ways_back(goes):
     return backs
 
 
-def marked(stands):
+def marked(things):
     marks = {}
-    for stand in stands:
-        marks[stand] = True
+    for thing in things:
+        marks[thing] = True
     return marks
 
 
