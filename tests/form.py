@@ -36,7 +36,13 @@ namedtuple NamedTuple TypedDict TYPE_CHECKING abstractmethod""".split()
 BARRED_PARTS = ("dataclass", "overload", "contextmanager")
 
 
-def faults(text):
+def methods_of(tree):
+    return [part.name for node in ast.walk(tree) if isinstance(node, ast.ClassDef)
+            for part in node.body if isinstance(part, ast.FunctionDef)]
+
+
+def faults(text, own=()):
+    """The faults of a file's text; own are the methods that the package's classes have."""
     tree = ast.parse(text)
     parents = {}
     for node in ast.walk(tree):
@@ -45,7 +51,7 @@ def faults(text):
     found = text_faults(text) + top_faults(tree)
     for node in ast.walk(tree):
         told = (statement_faults(node, parents) + expression_faults(node) + function_faults(node, tree)
-                + class_faults(node) + name_faults(node) + call_faults(node, tree) + walked_faults(node, parents)
+                + class_faults(node) + name_faults(node) + call_faults(node, own) + walked_faults(node, parents)
                 + change_faults(node) + error_faults(node))
         found.extend(f"{getattr(node, 'lineno', 0)}: {fault}" for fault in told)
     return found
@@ -215,12 +221,11 @@ def name_faults(node):
     return []
 
 
-def call_faults(node, tree):
+def call_faults(node, own):
     if not isinstance(node, ast.Call):
         return []
     found = []
-    own = [inner.name for inner in ast.walk(tree) if isinstance(inner, ast.FunctionDef)]
-    if isinstance(node.func, ast.Attribute) and node.func.attr not in METHODS + own:
+    if isinstance(node.func, ast.Attribute) and node.func.attr not in METHODS + list(DUNDERS) + list(own):
         found.append(f"L25 {node.func.attr}")
     if isinstance(node.func, ast.Name) and node.func.id in BUILTINS:
         for keyword in node.keywords:

@@ -3,7 +3,7 @@ import pathlib
 import re
 import unittest
 
-from tests.form import faults
+from tests.form import faults, methods_of
 
 PACKAGE = pathlib.Path(__file__).resolve().parent.parent / "wordrules"
 
@@ -23,8 +23,9 @@ class FormTest(unittest.TestCase):
             self.assertTrue(path.is_file() and re.fullmatch(r"[a-z0-9_]+\.py", path.name), path)
 
     def test_each_file_keeps_to_the_language(self):
+        own = [method for tree in self.trees.values() for method in methods_of(tree)]
         for path in self.files:
-            self.assertEqual(faults(path.read_text("utf-8")), [], path.name)
+            self.assertEqual(faults(path.read_text("utf-8"), own), [], path.name)
 
     def drawn_from(self, name):
         return [node for node in self.trees[name].body if isinstance(node, ast.ImportFrom)]
