@@ -191,7 +191,8 @@ class ShareFoundTest(unittest.TestCase):
 
     def test_over_sixty_signs(self):
         bottom = sum(counts(ALL, 60))
-        self.assertEqual(share_found(TONGUE, PLAN, ALL, 7, 60), (7 // math.gcd(7, bottom), bottom // math.gcd(7, bottom)))
+        self.assertEqual(share_found(TONGUE, PLAN, ALL, 7, 60), (7 // math.gcd(7, bottom),
+                                                                 bottom // math.gcd(7, bottom)))
 
 
 if __name__ == "__main__":

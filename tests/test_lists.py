@@ -89,7 +89,8 @@ class IsWayTest(unittest.TestCase):
             self.no(dict.fromkeys(way))
 
     def test_other_words(self):
-        for head in ("Plain", "plain ", "turned", "swapped", "cuts", "", "long", "apart", "not", None, 0, True, ["plain"]):
+        for head in ("Plain", "plain ", "turned", "swapped", "cuts", "", "long", "apart", "not", None, 0, True,
+                     ["plain"]):
             self.no((head,))
             self.no((head, 1))
             self.no((head, "a"))

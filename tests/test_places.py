@@ -76,7 +76,8 @@ class EveryPlanTest(Places):
     def test_other_cuts(self):
         self.go_through(((("ab", "b"), ("a", "ba")), (("abb", "aba"), ("a",)), (("a",), ("ba", "bba", "b", "bb"))))
         self.go_through(((("a",), ("a",), ("a", "aa", "aaa")), (("aa",), ("a", "aaa", "aa")), (("aaaa", "a", "aaa"),)))
-        self.go_through(((("a", "b"), ("a", "aa", "aaa", "b", "ab", "ba")), (("aa", "ab", "b"), ("a", "b", "ab", "aa"))))
+        self.go_through(((("a", "b"), ("a", "aa", "aaa", "b", "ab", "ba")),
+                         (("aa", "ab", "b"), ("a", "b", "ab", "aa"))))
         self.go_through((tuple(("ab", "ba") for _ in range(3)), (("abab", "abba", "baab"), ("ab", "ba", "b"))))
 
     def test_one_and_five_parts(self):
@@ -85,7 +86,8 @@ class EveryPlanTest(Places):
     def test_just_so_many_and_one_more(self):
         just = (SIGNS[:10], SIGNS[:10], SIGNS[:4], SIGNS[:5])
         row = tries((just,))
-        for plan, many in (((just,), 2000), ((just, (("a",),)), 2001), ((just, just), 2000), ((just, (("aaaa",),)), 2000)):
+        for plan, many in (((just,), 2000), ((just, (("a",),)), 2001), ((just, just), 2000),
+                           ((just, (("aaaa",),)), 2000)):
             self.assertEqual(how_many(plan), many)
             for number in (0, 1, 777, 1998, 1999):
                 self.assertEqual(try_at(plan, number), row[number])
@@ -108,7 +110,8 @@ class EveryPlanTest(Places):
             self.assertIsNone(place((((),), ((), ("a",))), text))
         for text in words_up_to("ab01", 4):
             self.assertEqual(place(PLAN, text), {word: number for number, word in enumerate(tries(PLAN))}.get(text))
-            self.assertEqual(place((STEP,), text), {word: number for number, word in enumerate(tries((STEP,)))}.get(text))
+            self.assertEqual(place((STEP,), text), {word: number for number,
+                                                    word in enumerate(tries((STEP,)))}.get(text))
 
     def test_no_number(self):
         for plan in (PLAN, (STEP,), (), (((),),), (GREAT,) * 3):
@@ -186,7 +189,8 @@ class GreatPlansTest(Places):
         draw = random.Random(162)
         threes = words_up_to("ab", 3)[7:]
         twos = words_up_to("ab", 4)[15:]
-        plan = ((tuple(threes),) * 5, (tuple(twos[:12]),) * 3 + (tuple(threes[:5]),), (tuple(threes[::2]), tuple(twos[4:])) * 2)
+        plan = ((tuple(threes),) * 5, (tuple(twos[:12]),) * 3 + (tuple(threes[:5]),),
+                (tuple(threes[::2]), tuple(twos[4:])) * 2)
         row = row_of_tries(plan)
         self.assertEqual(how_many(plan), len(row))
         for number in [0, 8 ** 5 - 1, 8 ** 5, len(row) - 1] + [draw.randrange(len(row)) for _ in range(60)]:

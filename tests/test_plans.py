@@ -161,7 +161,8 @@ class MadeTest(unittest.TestCase):
         self.assertEqual(made(step), words_up_to("ab", 5)[31:])
 
     def test_a_part_without_words(self):
-        for step in (((),), ((), ("a",)), (("a",), ()), (("a", "b"), (), ("0",)), (SIGNS,) * 4 + ((),), ((),) + (SIGNS,) * 4):
+        for step in (((),), ((), ("a",)), (("a",), ()), (("a", "b"), (), ("0",)), (SIGNS,) * 4 + ((),),
+                     ((),) + (SIGNS,) * 4):
             self.assertEqual(made(step), [])
             self.assertEqual(tries((step,)), [])
             self.assertEqual(tries((step, (("a",),), step)), ["a"])
@@ -228,7 +229,8 @@ class TriesTest(unittest.TestCase):
         one = (("a",),)
         for plan in ((JUST,), (half, half), (JUST, ((),)), (((),), half, half)):
             self.assertEqual(tries(plan), row_of_tries(plan))
-        for plan in ((JUST, one), (one, JUST), (half, half, one), (half, one, half), (JUST, JUST), (JUST, (("aaaa",),))):
+        for plan in ((JUST, one), (one, JUST), (half, half, one), (half, one, half), (JUST, JUST),
+                     (JUST, (("aaaa",),))):
             self.refused(lambda: tries(plan))
         self.assertEqual(len(tries(((SIGNS, SIGNS), JUST[:3] + (SIGNS[:4],)))), 144 + 1600)
 
